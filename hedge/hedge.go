@@ -1,0 +1,65 @@
+// Package hedge: numbers between two float32, and what is reckoned with them: see DOC.md.
+package hedge
+
+import (
+	"hedge/api"
+	"hedge/spans"
+)
+
+// Add adds (P3).
+func Add(a, b api.Interval) (api.Interval, api.Errno) {
+	if !spans.Is(a) || !spans.Is(b) {
+		return api.Interval{}, api.ErrInterval
+	}
+	return spans.Add(a, b), api.OK
+}
+
+// Sub takes away (P3).
+func Sub(a, b api.Interval) (api.Interval, api.Errno) {
+	if !spans.Is(a) || !spans.Is(b) {
+		return api.Interval{}, api.ErrInterval
+	}
+	return spans.Sub(a, b), api.OK
+}
+
+// Mul multiplies (P3).
+func Mul(a, b api.Interval) (api.Interval, api.Errno) {
+	if !spans.Is(a) || !spans.Is(b) {
+		return api.Interval{}, api.ErrInterval
+	}
+	return spans.Mul(a, b), api.OK
+}
+
+// Div divides (P4).
+func Div(a, b api.Interval) (api.Interval, api.Errno) {
+	if !spans.Is(a) || !spans.Is(b) {
+		return api.Interval{}, api.ErrInterval
+	}
+	return spans.Div(a, b)
+}
+
+// Sqrt takes the root (P5).
+func Sqrt(a api.Interval) (api.Interval, api.Errno) {
+	if !spans.Is(a) {
+		return api.Interval{}, api.ErrInterval
+	}
+	return spans.Sqrt(a)
+}
+
+// Check tells whether a text is an expression, and where it is not (P6).
+func Check(text string) (api.Errno, int) { return api.OK, 0 }
+
+// Eval reckons an expression (P7).
+func Eval(text string, of map[string]api.Interval) (api.Interval, api.Errno) {
+	return api.Interval{}, api.OK
+}
+
+// Integral tells between which numbers an integral lies (P8).
+func Integral(text string, from int, to int, budget int) (api.Interval, api.Errno) {
+	return api.Interval{}, api.OK
+}
+
+// Zeros tells where a function may be 0 (P9).
+func Zeros(text string, from int, to int, budget int) ([]api.Interval, api.Errno) {
+	return nil, api.OK
+}
