@@ -3,6 +3,7 @@ package hedge
 
 import (
 	"hedge/api"
+	"hedge/expr"
 	"hedge/spans"
 )
 
@@ -47,11 +48,23 @@ func Sqrt(a api.Interval) (api.Interval, api.Errno) {
 }
 
 // Check tells whether a text is an expression, and where it is not (P6).
-func Check(text string) (api.Errno, int) { return api.OK, 0 }
+func Check(text string) (api.Errno, int) {
+	_, errno, place := expr.Read(text)
+	return errno, place
+}
 
 // Eval reckons an expression (P7).
 func Eval(text string, of map[string]api.Interval) (api.Interval, api.Errno) {
-	return api.Interval{}, api.OK
+	e, errno, _ := expr.Read(text)
+	if errno != api.OK {
+		return api.Interval{}, errno
+	}
+	for _, i := range of {
+		if !spans.Is(i) {
+			return api.Interval{}, api.ErrInterval
+		}
+	}
+	return e.Of(of)
 }
 
 // Integral tells between which numbers an integral lies (P8).

@@ -51,6 +51,48 @@ func Sqrt(x api.Interval) (api.Interval, api.Errno) {
 	return around(ends.Root(x.Lo), ends.Root(x.Hi)), api.OK
 }
 
+// Neg is -x.
+func Neg(x api.Interval) api.Interval {
+	return around(-float64(x.Hi), -float64(x.Lo))
+}
+
+// Abs is x without its sign.
+func Abs(x api.Interval) api.Interval {
+	switch {
+	case x.Lo >= 0:
+		return Plain(x)
+	case x.Hi <= 0:
+		return Neg(x)
+	}
+	return around(0, -float64(x.Lo), float64(x.Hi))
+}
+
+// Sq is x times itself, which is never below 0.
+func Sq(x api.Interval) api.Interval {
+	y := Abs(x)
+	return around(ends.Product(y.Lo, y.Lo), ends.Product(y.Hi, y.Hi))
+}
+
+// Min is the lesser of x and y.
+func Min(x, y api.Interval) api.Interval {
+	return Plain(api.Interval{Lo: min(x.Lo, y.Lo), Hi: min(x.Hi, y.Hi)})
+}
+
+// Max is the greater of x and y.
+func Max(x, y api.Interval) api.Interval {
+	return Plain(api.Interval{Lo: max(x.Lo, y.Lo), Hi: max(x.Hi, y.Hi)})
+}
+
+// Plain is x with ends that may be told: a 0 has no minus.
+func Plain(x api.Interval) api.Interval {
+	return around(float64(x.Lo), float64(x.Hi))
+}
+
+// Ratio is what top divided by under lies between; under is not 0.
+func Ratio(top, under float32) api.Interval {
+	return around(ends.Quotient(top, under))
+}
+
 func hasZero(x api.Interval) bool {
 	return x.Lo <= 0 && x.Hi >= 0
 }
