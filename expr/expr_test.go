@@ -45,6 +45,22 @@ func told(e Expression) string {
 	return strings.Join(words, " ")
 }
 
+func TestHasOnly(t *testing.T) {
+	for _, c := range []struct {
+		text string
+		want bool
+	}{
+		{"x", true}, {"3", true}, {"x * sq(x) - max(x, 1)", true}, {"sqrt(x)", true},
+		{"y", false}, {"xx", false}, {"x + y", false}, {"y + x", false}, {"0 * y", false}, {"1 / 0 - y", false},
+		{"min(x, max(1, -(sq(y))))", false}, {"sqrt", false}, {"sq(sq)", false},
+	} {
+		e, errno, _ := Read(c.text)
+		if got := e.HasOnly("x"); errno != api.OK || got != c.want {
+			t.Errorf("%q has only x: %v, %d", c.text, got, errno)
+		}
+	}
+}
+
 func TestReadNothing(t *testing.T) {
 	for _, text := range []string{"", "1 +", "sin(1)", "sq(1, 2)", strings.Repeat(" ", api.MaxText) + "1"} {
 		if e, errno, _ := Read(text); errno == api.OK || e.steps != nil {

@@ -71,6 +71,16 @@ func (e Expression) Of(variables map[string]api.Interval) (api.Interval, api.Err
 	return done[0], api.OK
 }
 
+// HasOnly tells whether the expression has no variable but that one.
+func (e Expression) HasOnly(name string) bool {
+	for _, s := range e.steps {
+		if s.op == variable && s.name != name {
+			return false
+		}
+	}
+	return true
+}
+
 // of is what one step comes to.
 func (s step) of(args []api.Interval, variables map[string]api.Interval) (api.Interval, api.Errno) {
 	switch s.op {

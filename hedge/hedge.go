@@ -3,6 +3,7 @@ package hedge
 
 import (
 	"hedge/api"
+	"hedge/cells"
 	"hedge/expr"
 	"hedge/spans"
 )
@@ -69,7 +70,27 @@ func Eval(text string, of map[string]api.Interval) (api.Interval, api.Errno) {
 
 // Integral tells between which numbers an integral lies (P8).
 func Integral(text string, from int, to int, budget int) (api.Interval, api.Errno) {
-	return api.Interval{}, api.OK
+	f, errno := onLine(text, from, to, budget)
+	if errno != api.OK {
+		return api.Interval{}, errno
+	}
+	return cells.Integral(f, from, to, budget)
+}
+
+// onLine is the expression in x that a text is, or the first error of these arguments.
+func onLine(text string, from, to, budget int) (expr.Expression, api.Errno) {
+	f, errno, _ := expr.Read(text)
+	switch {
+	case errno != api.OK:
+		return expr.Expression{}, errno
+	case from < -api.MaxEnd || from > to || to > api.MaxEnd:
+		return expr.Expression{}, api.ErrEnds
+	case budget < 0 || budget > api.MaxBudget:
+		return expr.Expression{}, api.ErrBudget
+	case !f.HasOnly("x"):
+		return expr.Expression{}, api.ErrName
+	}
+	return f, api.OK
 }
 
 // Zeros tells where a function may be 0 (P9).
