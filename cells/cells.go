@@ -44,11 +44,16 @@ func (c cell) doubt() float32 {
 // Integral is what the integral of f lies between, after so many cuts; or ErrOpen, if
 // nothing can be said of some cell. The line is from from / Parts to to / Parts.
 func Integral(f expr.Expression, from, to, budget int) (api.Interval, api.Errno) {
-	line := []cell{of(f, float64(from)/api.Parts, float64(to)/api.Parts)}
+	line := whole(f, from, to)
 	for range budget {
 		line = cut(f, line, worst(line))
 	}
 	return sum(line)
+}
+
+// whole is the line ahead of all cuts.
+func whole(f expr.Expression, from, to int) []cell {
+	return []cell{of(f, float64(from)/api.Parts, float64(to)/api.Parts)}
 }
 
 // worst is the place of the cell that is cut next: of those that are alike the leftmost.

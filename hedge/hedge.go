@@ -95,5 +95,9 @@ func onLine(text string, from, to, budget int) (expr.Expression, api.Errno) {
 
 // Zeros tells where a function may be 0 (P9).
 func Zeros(text string, from int, to int, budget int) ([]api.Interval, api.Errno) {
-	return nil, api.OK
+	f, errno := onLine(text, from, to, budget)
+	if errno != api.OK {
+		return nil, errno
+	}
+	return cells.Zeros(f, from, to, budget), api.OK
 }

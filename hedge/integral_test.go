@@ -64,18 +64,25 @@ func cutNext(line []stretch) int {
 	return widest
 }
 
+func uncut(text string, from, to int) []stretch {
+	return []stretch{newStretch(text, big.NewRat(int64(from), api.Parts), big.NewRat(int64(to), api.Parts))}
+}
+
+func cutAt(text string, line []stretch, at int) []stretch {
+	p := line[at]
+	middle := new(big.Rat).Add(p.left, p.right)
+	middle.Mul(middle, big.NewRat(1, 2))
+	var next []stretch
+	next = append(next, line[:at]...)
+	next = append(next, newStretch(text, p.left, middle), newStretch(text, middle, p.right))
+	return append(next, line[at+1:]...)
+}
+
 // wantIntegral is what P8 says of arguments that are no error.
 func wantIntegral(text string, from, to, budget int) (api.Interval, api.Errno) {
-	line := []stretch{newStretch(text, big.NewRat(int64(from), api.Parts), big.NewRat(int64(to), api.Parts))}
+	line := uncut(text, from, to)
 	for range budget {
-		at := cutNext(line)
-		p := line[at]
-		middle := new(big.Rat).Add(p.left, p.right)
-		middle.Mul(middle, big.NewRat(1, 2))
-		var next []stretch
-		next = append(next, line[:at]...)
-		next = append(next, newStretch(text, p.left, middle), newStretch(text, middle, p.right))
-		line = append(next, line[at+1:]...)
+		line = cutAt(text, line, cutNext(line))
 	}
 	sum := iv(0, 0)
 	for _, p := range line {
@@ -155,6 +162,13 @@ func TestIntegralOpen(t *testing.T) {
 // TestIntegralErrors: where several errors apply, the one that the document names first is
 // told, with nothing beside it.
 func TestIntegralErrors(t *testing.T) {
+	lineErrors(func(text string, from, to, budget int, e api.Errno) {
+		checkIntegral(t, text, from, to, budget, api.Interval{}, e)
+	})
+}
+
+// lineErrors hands check arguments of Integral and Zeros that are errors, and which one.
+func lineErrors(check func(text string, from, to, budget int, e api.Errno)) {
 	const lowest, highest = math.MinInt, math.MaxInt
 	noText := []struct {
 		text string
@@ -172,30 +186,29 @@ func TestIntegralErrors(t *testing.T) {
 	noBudgets := []int{-1, api.MaxBudget + 1, lowest, highest}
 	goodBudgets := []int{0, 1, api.MaxBudget}
 	otherNames := strings.Split("y;xx;x + y;x + 0 * y;1 / 0 + y;1 / x - y;sqrt(-1) * y;min(1 / 0, max(x, y));sqrt;sq(sq);x * (1 / (x - x)) - abs;0 * (y - y)", ";")
-	none := api.Interval{}
 	for _, ends := range append(append([][2]int{}, goodEnds...), noEnds...) {
 		for _, budget := range append(append([]int{}, goodBudgets...), noBudgets...) {
 			for _, c := range noText {
-				checkIntegral(t, c.text, ends[0], ends[1], budget, none, c.e)
+				check(c.text, ends[0], ends[1], budget, c.e)
 			}
 		}
 	}
 	for _, text := range append([]string{"x", "1 / 0", "1"}, otherNames...) {
 		for _, ends := range noEnds {
 			for _, budget := range append([]int{0, 40}, noBudgets...) {
-				checkIntegral(t, text, ends[0], ends[1], budget, none, api.ErrEnds)
+				check(text, ends[0], ends[1], budget, api.ErrEnds)
 			}
 		}
 		for _, ends := range goodEnds {
 			for _, budget := range noBudgets {
-				checkIntegral(t, text, ends[0], ends[1], budget, none, api.ErrBudget)
+				check(text, ends[0], ends[1], budget, api.ErrBudget)
 			}
 		}
 	}
 	for _, text := range otherNames {
 		for _, ends := range goodEnds {
 			for _, budget := range goodBudgets {
-				checkIntegral(t, text, ends[0], ends[1], budget, none, api.ErrName)
+				check(text, ends[0], ends[1], budget, api.ErrName)
 			}
 		}
 	}

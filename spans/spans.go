@@ -35,7 +35,7 @@ func Mul(x, y api.Interval) api.Interval {
 
 // Div is x / y, or ErrZero, if 0 is in y.
 func Div(x, y api.Interval) (api.Interval, api.Errno) {
-	if hasZero(y) {
+	if HasZero(y) {
 		return api.Interval{}, api.ErrZero
 	}
 	return around(
@@ -93,7 +93,8 @@ func Ratio(top, under float32) api.Interval {
 	return around(ends.Quotient(top, under))
 }
 
-func hasZero(x api.Interval) bool {
+// HasZero tells whether 0 is in x.
+func HasZero(x api.Interval) bool {
 	return x.Lo <= 0 && x.Hi >= 0
 }
 
